@@ -1,0 +1,21 @@
+"""What an INTEGER, a COUNT and a list are."""
+
+
+def is_integer(value):
+    """Whether any value is an INTEGER."""
+    return isinstance(value, int) and not isinstance(value, bool)
+
+
+def is_count(value):
+    """Whether any value is a COUNT."""
+    return is_integer(value) and value >= 0
+
+
+def is_between(value, least, most):
+    """Whether any value is an INTEGER from the least to the greatest one."""
+    return is_integer(value) and least <= value <= most
+
+
+def is_list(value):
+    """Whether any value may be passed where a list is wanted."""
+    return isinstance(value, (list, tuple))

@@ -1,0 +1,70 @@
+"""The interface of the document: names, parameters, and the files in which they are defined."""
+
+import importlib
+import inspect
+import unittest
+
+FUNCTIONS = {
+    "basics": ["is_integer(value)", "is_count(value)"],
+    "words": [
+        "is_word(value)", "is_address(value)", "is_place(value)", "is_register(value)", "plus(one, other)",
+        "minus(one, other)", "times(one, other)", "over(one, other)", "both(one, other)", "either(one, other)",
+        "unlike(one, other)", "bits(word, low, many)", "shifted_up(one, many)", "shifted_down(one, many)",
+        "signed(word)", "with_bits(word, low, many, value)",
+    ],
+    "instructions": [
+        "operations()", "is_instruction(value)", "encoded(instruction)", "decoded(word)", "reads_of(instruction)",
+        "writes_of(instruction)", "sort_of(instruction)", "worth_of(name, one, other)",
+    ],
+}
+
+# Of each class its constructor, its methods, its properties, and whether it has `==`.
+CLASSES = {
+    "whims": [("Whims(numbers)", ["take(many)", "copy()"], ["taken"], False)],
+    "settings": [("Settings(values)", ["value(name)", "told()"], [], True)],
+}
+
+
+def written(name, function, leave_out=0):
+    """A function's name and its parameters, written as in the tables above."""
+    return f"{name}({', '.join(list(inspect.signature(function).parameters)[leave_out:])})"
+
+
+class Interface(unittest.TestCase):
+    def test_functions_are_defined_in_their_files(self):
+        for file, functions in FUNCTIONS.items():
+            module = importlib.import_module(f"orderlycore.{file}")
+            for told in functions:
+                with self.subTest(file=file, function=told):
+                    name = told.split("(")[0]
+                    function = vars(module)[name]
+                    self.assertTrue(inspect.isfunction(function))
+                    self.assertEqual(function.__module__, f"orderlycore.{file}")
+                    self.assertEqual(written(name, function), told)
+
+    def test_classes_are_defined_in_their_files(self):
+        for file, classes in CLASSES.items():
+            module = importlib.import_module(f"orderlycore.{file}")
+            for told, methods, properties, compares in classes:
+                with self.subTest(file=file, told=told):
+                    name = told.split("(")[0]
+                    one = vars(module)[name]
+                    self.assertTrue(inspect.isclass(one))
+                    self.assertEqual(one.__module__, f"orderlycore.{file}")
+                    self.assertEqual(written(name, one), told)
+                    self.methods_stand_in(one, methods)
+                    for asked in properties:
+                        self.assertIsInstance(vars(one)[asked], property)
+                    self.assertEqual("__eq__" in vars(one), compares)
+
+    def methods_stand_in(self, one, methods):
+        """Each method is defined in the class itself."""
+        for told in methods:
+            name = told.split("(")[0]
+            function = vars(one)[name]
+            self.assertTrue(inspect.isfunction(function))
+            self.assertEqual(written(name, function, 1), told)
+
+
+if __name__ == "__main__":
+    unittest.main()
