@@ -4,7 +4,7 @@ from orderlycore.basics import is_between, is_list
 from orderlycore.errors import DividedByNought, InvalidLow, InvalidMany, InvalidWord
 
 _WORD_BITS = 16
-_WORDS = 65536
+WORDS = 65536
 _ADDRESSES = 4096
 _PLACES = 1024
 _REGISTERS = 8
@@ -12,7 +12,7 @@ _REGISTERS = 8
 
 def is_word(value):
     """Whether any value is a WORD."""
-    return is_between(value, 0, _WORDS - 1)
+    return is_between(value, 0, WORDS - 1)
 
 
 def is_address(value):
@@ -50,19 +50,19 @@ def need_words(one, other):
 def plus(one, other):
     """The sum of two words."""
     need_words(one, other)
-    return (one + other) % _WORDS
+    return (one + other) % WORDS
 
 
 def minus(one, other):
     """The difference of two words."""
     need_words(one, other)
-    return (one - other) % _WORDS
+    return (one - other) % WORDS
 
 
 def times(one, other):
     """The product of two words."""
     need_words(one, other)
-    return one * other % _WORDS
+    return one * other % WORDS
 
 
 def over(one, other):
@@ -104,7 +104,7 @@ def shifted_up(one, many):
     # A far shift would build a huge number only to cut it off again.
     if many >= _WORD_BITS:
         return 0
-    return (one << many) % _WORDS
+    return (one << many) % WORDS
 
 
 def shifted_down(one, many):
@@ -116,8 +116,8 @@ def shifted_down(one, many):
 def signed(word):
     """The word as a number from -32768 to 32767."""
     need_word(word)
-    if word >= _WORDS // 2:
-        return word - _WORDS
+    if word >= WORDS // 2:
+        return word - WORDS
     return word
 
 

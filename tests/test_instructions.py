@@ -156,7 +156,9 @@ class Words(Case):
             "c above 7": [2368 + 8, 2368 + 9, 2368 + 16, 2368 + 31],
             "k above 7": [(22 << 11) + 8, (22 << 11) + 128, (23 << 11) + 255],
             "unused bits of sys": [(21 << 11) + 256, (21 << 11) + 1024],
-            "unused bits of bare ones": [(number << 11) + bit for number in (24, 25, 26) for bit in (1, 128, 256, 1024)],
+            "unused bits of bare ones": [
+                (number << 11) + bit for number in (24, 25, 26) for bit in (1, 128, 256, 1024)
+            ],
         }
         for kind, words in bad.items():
             for word in words:
@@ -173,7 +175,8 @@ class Registers(Case):
             self.same(reads_of((name, 4, 4, 4)), [4])
         for name in ("addi", "ld", "jr"):
             self.same(reads_of((name, 1, 6, 3)), [6])
-        self.same([reads_of(("st", 6, 2, 3)), reads_of(("st", 2, 6, 3)), reads_of(("st", 6, 6, 3))], [[2, 6], [2, 6], [6]])
+        self.same([reads_of(("st", 6, 2, 3)), reads_of(("st", 2, 6, 3)), reads_of(("st", 6, 6, 3))],
+                  [[2, 6], [2, 6], [6]])
         for name in ("lhi", "bz", "bnz", "wrc"):
             self.same(reads_of((name, 5, 3)), [5])
         for instruction in (("lim", 5, 3), ("jal", 5, 3), ("sys", 5), ("rdc", 5, 3), ("ret",), ("halt",), ("nop",)):
@@ -185,8 +188,8 @@ class Registers(Case):
             self.same(writes_of((name, 0, 5, 2)), 0)
         for name in ("lim", "lhi", "jal", "rdc"):
             self.same(writes_of((name, 6, 2)), 6)
-        for instruction in (("st", 6, 2, 3), ("bz", 6, 2), ("bnz", 6, 2), ("wrc", 6, 2), ("sys", 6), ("ret",), ("halt",),
-                            ("nop",)):
+        for instruction in (("st", 6, 2, 3), ("bz", 6, 2), ("bnz", 6, 2), ("wrc", 6, 2), ("sys", 6), ("ret",),
+                            ("halt",), ("nop",)):
             self.same(writes_of(instruction), None)
 
     def test_the_list_is_new(self):
@@ -198,7 +201,8 @@ class Registers(Case):
 class Sorts(Case):
     def test_all_operations(self):
         sorts = {"mul": "times", "div": "over", "ld": "load", "st": "store", "bz": "branch", "bnz": "branch",
-                 "jr": "jump", "jal": "jump", "sys": "lone", "rdc": "lone", "wrc": "lone", "ret": "lone", "halt": "lone"}
+                 "jr": "jump", "jal": "jump", "sys": "lone", "rdc": "lone", "wrc": "lone", "ret": "lone",
+                 "halt": "lone"}
         for instruction, _ in WORDS:
             self.same(sort_of(instruction), sorts.get(instruction[0], "sum"))
 
@@ -233,8 +237,9 @@ class Refusals(Case):
 
     def test_no_words(self):
         self.refused_each(InvalidWord, "value", NO_WORDS, decoded)
-        self.refused_each(InvalidWord, "value", NO_WORDS, lambda value: worth_of("add", value, 1))
-        self.refused_each(InvalidWord, "value", NO_WORDS, lambda value: worth_of("add", 1, value))
+        for name in THREE + ["addi", "lim", "lhi"]:
+            self.refused_each(InvalidWord, "value", NO_WORDS, lambda value: worth_of(name, value, 1))
+            self.refused_each(InvalidWord, "value", NO_WORDS, lambda value: worth_of(name, 1, value))
 
     def test_no_names_of_a_worth(self):
         wrong = NO_STRINGS + ["", "Add", "times", "over"]

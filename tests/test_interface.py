@@ -16,12 +16,26 @@ FUNCTIONS = {
         "operations()", "is_instruction(value)", "encoded(instruction)", "decoded(word)", "reads_of(instruction)",
         "writes_of(instruction)", "sort_of(instruction)", "worth_of(name, one, other)",
     ],
+    "listing": ["text_of(instruction)", "instruction_of(text)"],
+    "lexing": ["is_label(value)", "number_in(text)", "parted(text)"],
+    "images": ["image_text(image)", "image_of(text)", "loaded(image)"],
+    "assembler": ["first_bad(text)", "assembled(text)", "names_of(text)", "listed(image)"],
+    "memory": ["memory_of(parts)"],
 }
 
 # Of each class its constructor, its methods, its properties, and whether it has `==`.
 CLASSES = {
     "whims": [("Whims(numbers)", ["take(many)", "copy()"], ["taken"], False)],
     "settings": [("Settings(values)", ["value(name)", "told()"], [], True)],
+    "images": [("Image(parts)", ["parts()", "word(place)"], ["size"], True)],
+    "memory": [("Memory()", ["word(place)", "put(place, word)", "rows()", "copy()"], [], True)],
+    "devices": [(
+        "Devices(inputs)",
+        ["can(place)", "read(place)", "write(place, word)", "raised(line)", "counted()", "due(mask)", "lowered(line)",
+         "outputs()", "left()", "told()", "copy()"],
+        ["steps"],
+        True,
+    )],
 }
 
 

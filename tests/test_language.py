@@ -72,9 +72,10 @@ def plain(node):
 
 
 def defined(file):
-    """The names of the functions and classes that a file defines."""
+    """The names of the functions, classes and values that a file defines at module level."""
     tree = ast.parse(dict(sources())[file + ".py"])
-    return [node.name for node in tree.body if isinstance(node, (ast.FunctionDef, ast.ClassDef))]
+    names = [node.name for node in tree.body if isinstance(node, (ast.FunctionDef, ast.ClassDef))]
+    return names + [node.targets[0].id for node in tree.body if isinstance(node, ast.Assign)]
 
 
 def on_each_file(test):
