@@ -1,5 +1,7 @@
 """What an INTEGER, a COUNT and a list are."""
 
+from orderlycore.errors import InvalidMany, InvalidNumber
+
 
 def is_integer(value):
     """Whether any value is an INTEGER."""
@@ -19,3 +21,15 @@ def is_between(value, least, most):
 def is_list(value):
     """Whether any value may be passed where a list is wanted."""
     return isinstance(value, (list, tuple))
+
+
+def need_many(value, least, most):
+    """Refuse what is no COUNT from the least to the greatest one."""
+    if not is_between(value, least, most):
+        raise InvalidMany(value)
+
+
+def need_number(value):
+    """Refuse what is no COUNT."""
+    if not is_count(value):
+        raise InvalidNumber(value)

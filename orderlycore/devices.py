@@ -117,7 +117,12 @@ class Devices:
             raise InvalidPlace(place)
 
 
+def is_line(value):
+    """Whether any value is a line."""
+    return is_between(value, 0, _LINES - 1)
+
+
 def need_line(value):
     """Refuse what is no line."""
-    if not is_between(value, 0, _LINES - 1):
+    if not is_line(value):
         raise InvalidLine(value)

@@ -1,7 +1,7 @@
 """MEMORY: a WORD at each place below 960, and the parts of which one is made."""
 
 from orderlycore.basics import is_between, is_list
-from orderlycore.errors import InvalidParts, InvalidPlace
+from orderlycore.errors import InvalidMemory, InvalidParts, InvalidPlace
 from orderlycore.words import is_word_list, need_word
 
 MEMORY_PLACES = 960
@@ -36,6 +36,12 @@ class Memory:
 
     def __eq__(self, other):
         return isinstance(other, Memory) and self._words == other._words
+
+
+def need_memory(value):
+    """Refuse what is no Memory."""
+    if not isinstance(value, Memory):
+        raise InvalidMemory(value)
 
 
 def memory_of(parts):

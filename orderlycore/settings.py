@@ -1,7 +1,7 @@
 """SETTINGS: how wide, how deep and how slow the parts of a core are."""
 
 from orderlycore.basics import is_between, is_list
-from orderlycore.errors import InvalidValues, NoSuchName
+from orderlycore.errors import InvalidSettings, InvalidValues, NoSuchName
 
 # Of each name the least value, the greatest one, and the one if nothing is told.
 _BOUNDS = {
@@ -55,6 +55,12 @@ class Settings:
 
     def __eq__(self, other):
         return isinstance(other, Settings) and self._values == other._values
+
+
+def need_settings(value):
+    """Refuse what is no Settings."""
+    if not isinstance(value, Settings):
+        raise InvalidSettings(value)
 
 
 def _is_name(value):

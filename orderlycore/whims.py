@@ -1,7 +1,7 @@
 """WHIMS: the numbers that stand for all that is done by chance."""
 
 from orderlycore.basics import is_between, is_count, is_list
-from orderlycore.errors import InvalidMany, InvalidNumbers
+from orderlycore.errors import InvalidMany, InvalidNumbers, InvalidWhims
 
 _MOST_NUMBERS = 200
 _GREATEST = 1000000
@@ -36,6 +36,12 @@ class Whims:
         made = Whims(self._numbers)
         made._position = self._position
         return made
+
+
+def need_whims(value):
+    """Refuse what is no Whims."""
+    if not isinstance(value, Whims):
+        raise InvalidWhims(value)
 
 
 def _are_whims(value):

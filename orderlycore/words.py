@@ -1,13 +1,14 @@
 """WORDS, ADDRESSES, PLACES and registers: what they are, and how words are reckoned with."""
 
 from orderlycore.basics import is_between, is_list
-from orderlycore.errors import DividedByNought, InvalidLow, InvalidMany, InvalidWord
+from orderlycore.errors import DividedByNought, InvalidAddress, InvalidLow, InvalidMany, InvalidPlace
+from orderlycore.errors import InvalidRegister, InvalidWord
 
 _WORD_BITS = 16
 WORDS = 65536
-_ADDRESSES = 4096
-_PLACES = 1024
-_REGISTERS = 8
+ADDRESSES = 4096
+PLACES = 1024
+REGISTERS = 8
 
 
 def is_word(value):
@@ -17,17 +18,17 @@ def is_word(value):
 
 def is_address(value):
     """Whether any value is an ADDRESS."""
-    return is_between(value, 0, _ADDRESSES - 1)
+    return is_between(value, 0, ADDRESSES - 1)
 
 
 def is_place(value):
     """Whether any value is a PLACE."""
-    return is_between(value, 0, _PLACES - 1)
+    return is_between(value, 0, PLACES - 1)
 
 
 def is_register(value):
     """Whether any value tells a register."""
-    return is_between(value, 0, _REGISTERS - 1)
+    return is_between(value, 0, REGISTERS - 1)
 
 
 def is_word_list(value):
@@ -39,6 +40,24 @@ def need_word(value):
     """Refuse what is no WORD."""
     if not is_word(value):
         raise InvalidWord(value)
+
+
+def need_address(value):
+    """Refuse what is no ADDRESS."""
+    if not is_address(value):
+        raise InvalidAddress(value)
+
+
+def need_place(value):
+    """Refuse what is no PLACE."""
+    if not is_place(value):
+        raise InvalidPlace(value)
+
+
+def need_register(value):
+    """Refuse what tells no register."""
+    if not is_register(value):
+        raise InvalidRegister(value)
 
 
 def need_words(one, other):

@@ -21,6 +21,19 @@ FUNCTIONS = {
     "images": ["image_text(image)", "image_of(text)", "loaded(image)"],
     "assembler": ["first_bad(text)", "assembled(text)", "names_of(text)", "listed(image)"],
     "memory": ["memory_of(parts)"],
+    "pages": [
+        "page_entry(frame, flags)", "entry_parts(word)", "by_entry(word, address, way, is_user)",
+        "translated(memory, root, address, way, is_user)", "straight(address, way)",
+        "laid(memory, root, tables, rows)", "mappings(memory, root)", "pages_of(memory, root, frame)",
+        "leaning(memory, root, place)",
+    ],
+    "controls": [
+        "fresh_controls()", "is_supervisor(controls)", "is_on(controls)", "is_paged(controls)",
+        "entry_address(controls)", "home_address(controls)", "root_frame(controls)", "line_mask(controls)",
+        "trapped(controls, cause, home, bad)", "returned(controls)",
+    ],
+    "states": ["snapshot(state)"],
+    "plain": ["step(state)", "steps(state, many, raised)"],
 }
 
 # Of each class its constructor, its methods, its properties, and whether it has `==`.
@@ -34,6 +47,33 @@ CLASSES = {
         ["can(place)", "read(place)", "write(place, word)", "raised(line)", "counted()", "due(mask)", "lowered(line)",
          "outputs()", "left()", "told()", "copy()"],
         ["steps"],
+        True,
+    )],
+    "states": [(
+        "State(memory, inputs)",
+        ["registers()", "controls()", "memory()", "devices()", "copy()"],
+        ["address", "halted", "steps"],
+        True,
+    )],
+    "caches": [(
+        "Cache(line, sets, ways)",
+        ["has(place)", "word(place)", "used(place)", "enter(place, words)", "put(place, word, is_written)",
+         "out(place)", "out_at(number)", "lines()", "cleaned()", "copy()"],
+        [],
+        True,
+    )],
+    "hierarchy": [(
+        "Hierarchy(settings, memory, whims)",
+        ["fetched(place)", "read(place)", "written(place, word)", "seen(place)", "below(place)", "cleaned()",
+         "lines()", "copy()"],
+        [],
+        False,
+    )],
+    "buffers": [(
+        "Buffer(many)",
+        ["rows()", "found(page)", "entered(page, first, second, word)", "stored(place)", "out(position)",
+         "cleared()", "copy()"],
+        ["most"],
         True,
     )],
 }
