@@ -34,6 +34,7 @@ FUNCTIONS = {
     ],
     "states": ["snapshot(state)"],
     "plain": ["step(state)", "steps(state, many, raised)"],
+    "walker": ["asked(buffer, hierarchy, whims, settings, controls, address, way)"],
 }
 
 # Of each class its constructor, its methods, its properties, and whether it has `==`.
@@ -74,6 +75,41 @@ CLASSES = {
         ["rows()", "found(page)", "entered(page, first, second, word)", "stored(place)", "out(position)",
          "cleared()", "copy()"],
         ["most"],
+        True,
+    )],
+    "predictors": [(
+        "Predictor(settings, whims)",
+        ["expected(address, word)", "learned(address, word, behind)", "told()", "copy(whims)"],
+        [],
+        False,
+    )],
+    "fetches": [(
+        "Fetcher(settings, whims)",
+        ["cycle(predictor, buffer, hierarchy, controls)", "rows()", "held_row()", "pulled()", "leans_on(place)",
+         "redirected(address)", "copy(whims)"],
+        ["address", "stopped"],
+        False,
+    )],
+    "renames": [(
+        "Renamer(many)",
+        ["place_of(which)", "lent(which)", "put(at, value)", "is_ready(at)", "value(at)", "undone(which, new, old)",
+         "kept(which, new, old)", "written(which, value)", "kept_words()", "writes()", "lendings()", "free()",
+         "told()", "copy()"],
+        ["can_lend"],
+        True,
+    )],
+    "orders": [(
+        "Orders(many)",
+        ["numbers()", "oldest()", "entered(thing)", "thing(number)", "is_done(number)", "done(number)", "left()",
+         "dropped(number)", "copy()"],
+        ["many", "held", "upcoming"],
+        True,
+    )],
+    "stations": [(
+        "Stations(many)",
+        ["put(number, reads, ready)", "woken(at)", "ready()", "waits_for(number)", "reads(number)", "picked(number)",
+         "chosen(oldest, whims, twist)", "numbers()", "dropped(number)", "copy()"],
+        ["many", "held"],
         True,
     )],
 }
