@@ -102,7 +102,7 @@ class Cache:
         told = []
         for row in self._sets:
             told.extend([_told(line) for line in row if line[2]])
-        self._sets = [[(first, words, False) for first, words, _ in row] for row in self._sets]
+        self._sets = [[(first, words, False) for first, words, _ in lines] for lines in self._sets]
         return told
 
     def copy(self):
