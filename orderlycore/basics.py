@@ -33,3 +33,12 @@ def need_number(value):
     """Refuse what is no COUNT."""
     if not is_count(value):
         raise InvalidNumber(value)
+
+
+def drop_from(rows, number):
+    """Rows by their numbers lose all from this number on: the list of the numbers that went, the greatest one first."""
+    need_number(number)
+    gone = sorted([one for one in rows if one >= number], reverse=True)
+    for one in gone:
+        del rows[one]
+    return gone

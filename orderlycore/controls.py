@@ -75,6 +75,11 @@ def line_mask(controls):
     return bits(controls[_MASK], 0, _LINES)
 
 
+def line_taken(controls, devices):
+    """The line of devices whose interrupt is taken now, None without one."""
+    return devices.due(line_mask(controls)) if is_on(controls) else None
+
+
 def trapped(controls, cause, home, bad):
     """The controls behind a trap."""
     need_controls(controls)

@@ -17,7 +17,7 @@ class Devices:
     """The four device places that are there, and the lines."""
 
     def __init__(self, inputs):
-        if not (is_list(inputs) and len(inputs) <= _MOST_INPUTS and is_word_list(inputs)):
+        if not are_inputs(inputs):
             raise InvalidInputs(inputs)
         self._left = list(inputs)
         self._outputs = []
@@ -115,6 +115,11 @@ class Devices:
     def _need_there(self, place):
         if not self.can(place):
             raise InvalidPlace(place)
+
+
+def are_inputs(value):
+    """Whether any value is a list of words that devices may have as inputs."""
+    return is_list(value) and len(value) <= _MOST_INPUTS and is_word_list(value)
 
 
 def is_line(value):

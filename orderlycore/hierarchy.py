@@ -2,7 +2,7 @@
 
 from orderlycore.caches import Cache
 from orderlycore.errors import InvalidHierarchy
-from orderlycore.memory import need_memory, need_memory_place
+from orderlycore.memory import need_memory, need_memory_place, put_words
 from orderlycore.settings import need_settings
 from orderlycore.whims import need_whims
 from orderlycore.words import need_word
@@ -52,6 +52,14 @@ class Hierarchy:
         word = self._second.word(place)
         return self._memory.word(place) if word is None else word
 
+    def memory_seen(self):
+        """A memory of the words seen."""
+        made = self._memory.copy()
+        for lines in self._second.lines():
+            for first, words, _ in lines:
+                put_words(made, first, words)
+        return made
+
     def below(self, place):
         """The memory's word at a place."""
         return self._memory.word(place)
@@ -67,7 +75,11 @@ class Hierarchy:
 
     def copy(self):
         """A hierarchy that is as this one is now, and changes apart from it, memory and whims with it."""
-        made = Hierarchy(self._settings, self._memory.copy(), self._whims.copy())
+        return self.copy_by(self._whims.copy())
+
+    def copy_by(self, whims):
+        """As copy, but it goes by the very whims that it is given."""
+        made = Hierarchy(self._settings, self._memory.copy(), whims)
         made._fetches = self._fetches.copy()
         made._reads = self._reads.copy()
         made._second = self._second.copy()
@@ -112,8 +124,7 @@ class Hierarchy:
             return
         first, words, is_written = line
         if is_written:
-            for place, word in enumerate(words, start=first):
-                self._memory.put(place, word)
+            put_words(self._memory, first, words)
 
 
 def need_hierarchy(value):

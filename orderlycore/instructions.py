@@ -121,9 +121,7 @@ def need_instruction(value):
 def encoded(instruction):
     """The word of an instruction."""
     need_instruction(instruction)
-    number, form = _OPERATIONS[instruction[0]]
-    stands = [_stands(one, part) for one, part in zip(instruction[1:], _FORMS[form])]
-    return (number << _NUMBER_BIT) + sum(stands)
+    return _word_of(instruction)
 
 
 def decoded(word):
@@ -136,7 +134,7 @@ def decoded(word):
     numbers = [_number_at(word, part) for part in _FORMS[_form_of(name)]]
     found = (name, *numbers)
     # A bit that is not used makes another word than the instruction has.
-    if is_instruction(found) and encoded(found) == word:
+    if is_instruction(found) and _word_of(found) == word:
         return found
     return None
 
@@ -173,6 +171,12 @@ def worth_of(name, one, other):
     if name in ("and", "or", "xor", "low", "eq"):
         return _compared(name, one, other)
     return _reckoned(name, one, other)
+
+
+def _word_of(instruction):
+    number, form = _OPERATIONS[instruction[0]]
+    stands = [_stands(one, part) for one, part in zip(instruction[1:], _FORMS[form])]
+    return (number << _NUMBER_BIT) + sum(stands)
 
 
 def _form_of(name):

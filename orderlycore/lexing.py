@@ -43,12 +43,11 @@ def number_in(text):
     return _decimal_in(text)
 
 
-def count_in(text):
-    """The COUNT that a string writes in decimal digits without needless zeros, None if it writes none."""
-    number = number_in(text)
-    if number is None or number < 0 or str(number) != text:
+def count_in(text, most=_MOST_DIGITS):
+    """The COUNT that a string writes in so many decimal digits at most, without needless zeros; else None."""
+    if not _is_made_of(text, _DIGITS, most) or (text[0] == "0" and text != "0"):
         return None
-    return number
+    return int(text)
 
 
 def value_in(text):

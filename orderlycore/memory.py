@@ -50,9 +50,14 @@ def memory_of(parts):
         raise InvalidParts(parts)
     made = Memory()
     for first, words in parts:
-        for place, word in enumerate(words, start=first):
-            made.put(place, word)
+        put_words(made, first, words)
     return made
+
+
+def put_words(memory, first, words):
+    """Put words from a place on, one behind the other."""
+    for place, word in enumerate(words, start=first):
+        memory.put(place, word)
 
 
 def is_memory_place(value):

@@ -53,6 +53,10 @@ class Orders:
         """The thing with a number."""
         return self._things[self._where(number)]
 
+    def changed(self, number, thing):
+        """The thing with a number is another one from now on."""
+        self._things[self._where(number)] = thing
+
     def is_done(self, number):
         """Whether the thing with a number is done."""
         return self._dones[self._where(number)]

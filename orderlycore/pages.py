@@ -113,6 +113,11 @@ def walked(words, root, address, way, is_user):
     return (place, cause, [first, second], word)
 
 
+def page_walk(memory, root, page):
+    """How a page's first address is walked for a load of the supervisor, whom no rights stop."""
+    return walked(memory, root, page * PAGE_WORDS, "load", False)
+
+
 def straight(address, way):
     """The tuple (place or None, cause, leans) of an address without pages."""
     need_address(address)
@@ -149,7 +154,7 @@ def mappings(memory, root):
     need_frame(root)
     told = []
     for page in range(_PAGES):
-        word = _page_walk(memory, root, page)[3]
+        word = page_walk(memory, root, page)[3]
         if word is not None:
             is_there, flags, frame = entry_parts(word)
             if is_there:
@@ -170,7 +175,7 @@ def leaning(memory, root, place):
     need_memory(memory)
     need_frame(root)
     need_place(place)
-    return [page for page in range(_PAGES) if place in _page_walk(memory, root, page)[2]]
+    return [page for page in range(_PAGES) if place in page_walk(memory, root, page)[2]]
 
 
 def _is_frame(value):
@@ -219,8 +224,3 @@ def _entry_place(frame, number):
 def _clear_table(memory, frame):
     for number in range(PAGE_WORDS):
         memory.put(_entry_place(frame, number), 0)
-
-
-def _page_walk(memory, root, page):
-    """How a page's first address is walked for a load of the supervisor, whom no rights stop."""
-    return walked(memory, root, page * PAGE_WORDS, "load", False)

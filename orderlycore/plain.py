@@ -31,13 +31,42 @@ def steps(state, many, raised):
     need_many(many, 0, _MOST_STEPS)
     if not _are_raised(raised):
         raise InvalidRaised(raised)
+    return steps_on(state, many, raised)
+
+
+def steps_on(state, many, raised):
+    """As steps, of any number of steps."""
     rows = []
     while len(rows) < many and not state.halted:
-        for number, line in raised:
-            if number == state.steps:
-                state.raise_line(line)
+        raise_ahead(state, raised)
         rows.append(step(state))
     return rows
+
+
+def raise_ahead(state, raised):
+    """The lines are raised that are told for the state's next step."""
+    for number, line in raised:
+        if number == state.steps:
+            state.raise_line(line)
+
+
+def do_alone(state, word, instruction):
+    """Do a lone instruction at the state's address, if it may be done: the row of the step."""
+    name = instruction[0]
+    if name in _SUPERVISORS and not is_supervisor(state.controls()):
+        return _trap(state, word, SUPERVISOR_ONLY, state.address, 0)
+    if name == "sys":
+        return _trap(state, word, SYSTEM_CALL, next_address(state.address), 0)
+    if name == "rdc":
+        return _go_on(state, word, instruction[1], state.controls()[instruction[2]])
+    row = _go_on(state, word, None, None)
+    if name == "wrc":
+        state.set_control(instruction[2], state.registers()[instruction[1]])
+    elif name == "ret":
+        state.give_back()
+    else:
+        state.halt()
+    return row
 
 
 def _are_raised(value):
@@ -63,16 +92,14 @@ def _row_of_step(state):
     instruction = decoded(word)
     if instruction is None:
         return _trap(state, word, BAD_INSTRUCTION, address, 0)
-    if instruction[0] in _SUPERVISORS and not is_supervisor(state.controls()):
-        return _trap(state, word, SUPERVISOR_ONLY, address, 0)
     return _do(state, word, instruction)
 
 
 def _do(state, word, instruction):
-    """Do an instruction that may be done: the row of the step."""
+    """Do an instruction: the row of the step."""
     sort = sort_of(instruction)
     if sort == "lone":
-        return _do_alone(state, word, instruction)
+        return do_alone(state, word, instruction)
     if sort == "load":
         return _load(state, word, instruction)
     if sort == "store":
@@ -119,22 +146,6 @@ def _move(state, word, instruction):
     value = None if which is None else next_address(state.address)
     row = _go_on(state, word, which, value)
     state.go_to(behind)
-    return row
-
-
-def _do_alone(state, word, instruction):
-    name = instruction[0]
-    if name == "sys":
-        return _trap(state, word, SYSTEM_CALL, next_address(state.address), 0)
-    if name == "rdc":
-        return _go_on(state, word, instruction[1], state.controls()[instruction[2]])
-    row = _go_on(state, word, None, None)
-    if name == "wrc":
-        state.set_control(instruction[2], state.registers()[instruction[1]])
-    elif name == "ret":
-        state.give_back()
-    else:
-        state.halt()
     return row
 
 

@@ -63,12 +63,8 @@ def need_settings(value):
         raise InvalidSettings(value)
 
 
-def _is_name(value):
-    # What is no string may be a value that cannot be looked up at all.
-    return isinstance(value, str) and value in _BOUNDS
-
-
-def _is_setting(value):
+def is_setting(value):
+    """Whether any value is a tuple of a name and a COUNT within its bounds."""
     if not (isinstance(value, tuple) and len(value) == 2 and _is_name(value[0])):
         return False
     least, greatest = _BOUNDS[value[0]][:2]
@@ -77,7 +73,12 @@ def _is_setting(value):
     return value[0] != "line" or value[1] in _LINES
 
 
+def _is_name(value):
+    # What is no string may be a value that cannot be looked up at all.
+    return isinstance(value, str) and value in _BOUNDS
+
+
 def _are_values(value):
-    if not (is_list(value) and all([_is_setting(one) for one in value])):
+    if not (is_list(value) and all([is_setting(one) for one in value])):
         return False
     return len(set([one[0] for one in value])) == len(value)

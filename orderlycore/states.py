@@ -1,7 +1,7 @@
 """STATES: all that the plain machine is, between two steps."""
 
 from orderlycore.causes import NO_SUCH_PLACE
-from orderlycore.controls import entry_address, fresh_controls, home_address, is_on, is_paged, is_supervisor, line_mask
+from orderlycore.controls import entry_address, fresh_controls, home_address, is_paged, is_supervisor, line_taken
 from orderlycore.controls import returned, root_frame, trapped
 from orderlycore.devices import Devices
 from orderlycore.errors import InvalidState
@@ -56,14 +56,9 @@ class State:
 
     def copy(self):
         """A state that is as this one is now, and changes apart from it."""
-        made = State(self._memory, [])
-        made._registers = list(self._registers)
-        made._address = self._address
-        made._controls = list(self._controls)
-        made._devices = self._devices.copy()
-        made._halted = self._halted
-        made._done = self._done
-        return made
+        return state_with(
+            self._registers, self._controls, self._address, self._memory, self._devices, self._halted, self._done
+        )
 
     def __eq__(self, other):
         return (
@@ -79,18 +74,11 @@ class State:
 
     def line_due(self):
         """The line whose interrupt is taken now, None without one."""
-        if not is_on(self._controls):
-            return None
-        return self._devices.due(line_mask(self._controls))
+        return line_taken(self._controls, self._devices)
 
     def looked_up(self, address, way):
         """The tuple (place or None, cause) of an address, by the controls and tables as they are now."""
-        if is_paged(self._controls):
-            is_user = not is_supervisor(self._controls)
-            found = translated(self._memory, root_frame(self._controls), address, way, is_user)
-        else:
-            found = straight(address, way)
-        place, cause, _ = found
+        place, cause, _ = led_to(self._memory, self._controls, address, way)
         if place is None or is_memory_place(place) or self._devices.can(place):
             return (place, cause)
         return (None, NO_SUCH_PLACE)
@@ -146,6 +134,25 @@ class State:
         """One step more is done."""
         self._devices.counted()
         self._done += 1
+
+
+def state_with(registers, controls, address, memory, devices, is_halted, done):
+    """A state that has all this."""
+    made = State(memory, [])
+    made._registers = list(registers)
+    made._controls = list(controls)
+    made._address = address
+    made._devices = devices.copy()
+    made._halted = is_halted
+    made._done = done
+    return made
+
+
+def led_to(memory, controls, address, way):
+    """The tuple (place or None, cause, leans) of an address by controls, and by the tables in a memory."""
+    if is_paged(controls):
+        return translated(memory, root_frame(controls), address, way, not is_supervisor(controls))
+    return straight(address, way)
 
 
 def need_state(value):

@@ -1,6 +1,6 @@
 """Reservation STATIONS: rows wait here until all that they read is ready."""
 
-from orderlycore.basics import is_between, is_list, need_many, need_number
+from orderlycore.basics import drop_from, is_between, is_list, need_many, need_number
 from orderlycore.errors import AlreadyThere, InvalidReads, InvalidTwist, NoNumber, NoRoom
 from orderlycore.whims import need_whims
 
@@ -91,11 +91,7 @@ class Stations:
 
     def dropped(self, number):
         """Drop from a number on: the list of the numbers that went, the greatest one first."""
-        need_number(number)
-        gone = [one for one in self.numbers() if one >= number]
-        for one in gone:
-            del self._rows[one]
-        return gone[::-1]
+        return drop_from(self._rows, number)
 
     def copy(self):
         """Stations that are as these are now, and change apart from them."""

@@ -11,7 +11,7 @@ class Whims:
     """A list of COUNTS out of which numbers are taken one by one."""
 
     def __init__(self, numbers):
-        if not _are_whims(numbers):
+        if not are_whims(numbers):
             raise InvalidNumbers(numbers)
         self._numbers = list(numbers)
         self._position = 0
@@ -38,13 +38,14 @@ class Whims:
         return made
 
 
+def are_whims(value):
+    """Whether any value is a list of numbers of which whims are made."""
+    if not (is_list(value) and len(value) <= _MOST_NUMBERS):
+        return False
+    return all([is_between(number, 0, _GREATEST) for number in value])
+
+
 def need_whims(value):
     """Refuse what is no Whims."""
     if not isinstance(value, Whims):
         raise InvalidWhims(value)
-
-
-def _are_whims(value):
-    if not (is_list(value) and len(value) <= _MOST_NUMBERS):
-        return False
-    return all([is_between(number, 0, _GREATEST) for number in value])

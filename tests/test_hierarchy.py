@@ -265,6 +265,7 @@ class AgainstTheModel(Case):
                     self.assertTrue(1 <= cycles <= most)
                 self.always_holds(held, memory)
             self.same([held.seen(place) for place in range(960)], last)
+            self.same(words_of(held.memory_seen()), last)
             held.cleaned()
             self.same(words_of(memory), last)
 
@@ -322,6 +323,20 @@ class Apart(Case):
         copied = held.copy()
         self.same([copied.read(0), copied.read(0), copied.read(0), whims.taken, held.read(0), held.read(0)],
                   [(0, 1), (0, 2), (0, 2), 1, (0, 1), (0, 2)])
+
+    def test_a_copy_by_other_whims_goes_by_them(self):
+        held = Hierarchy(Settings(SMALL + [("whim", 1)]), with_words(), Whims([1, 0, 1, 1]))
+        held.read(0)
+        whims = Whims([0, 1, 1])
+        copied = held.copy_by(whims)
+        self.same([copied.read(0), copied.read(0), whims.taken, held.read(0)], [(1000, 1), (1000, 2), 2, (1000, 1)])
+
+    def test_the_memory_that_is_seen_is_new(self):
+        held = Hierarchy(Settings(SMALL), with_words(), Whims([]))
+        held.written(5, 7)
+        held.memory_seen().put(5, 9)
+        self.same([held.seen(5), held.below(5), held.memory_seen().word(5), type(held.memory_seen())],
+                  [7, 1005, 7, Memory])
 
     def test_what_is_returned_is_new(self):
         held = Hierarchy(Settings(SMALL), with_words(), Whims([]))

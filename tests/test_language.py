@@ -16,7 +16,7 @@ BUILTINS = set("""
 """.split())
 STATEMENTS = (
     ast.FunctionDef, ast.ClassDef, ast.Return, ast.Delete, ast.Assign, ast.AugAssign, ast.For, ast.While, ast.If,
-    ast.Raise, ast.Assert, ast.ImportFrom, ast.Expr, ast.Pass, ast.Break, ast.Continue,
+    ast.Raise, ast.Assert, ast.ImportFrom, ast.Expr, ast.Pass, ast.Break, ast.Continue, ast.Try,
 )
 # What the rules forbid, or bind to conditions that this package does without.
 EXPRESSIONS_LEFT_OUT = (
@@ -48,7 +48,7 @@ def sources():
 
 
 def bound(tree):
-    """All names that a file binds: functions, classes, parameters and variables."""
+    """All names that a file binds: functions, classes, parameters, variables and caught errors."""
     for node in ast.walk(tree):
         if isinstance(node, (ast.FunctionDef, ast.ClassDef)):
             yield node.name
@@ -56,19 +56,28 @@ def bound(tree):
             yield node.arg
         elif isinstance(node, ast.Name) and isinstance(node.ctx, ast.Store):
             yield node.id
-        elif isinstance(node, ast.alias):
+        elif isinstance(node, (ast.alias, ast.ExceptHandler)):
             yield node.name
 
 
-def plain(node):
-    """Whether a value at module level is plain, lists and dicts within others left out."""
+def plain(node, functions):
+    """Whether a value at module level is plain, lists and dicts within others left out.
+
+    Within lists, tuples and dicts the functions may stand, too: those that are defined above.
+    """
     if isinstance(node, ast.UnaryOp):
-        return isinstance(node.op, ast.USub) and plain(node.operand)
+        return isinstance(node.op, ast.USub) and plain(node.operand, functions)
     if isinstance(node, (ast.Tuple, ast.List)):
-        return all(plain(one) and not isinstance(one, (ast.List, ast.Dict)) for one in node.elts)
+        return all(plain_within(one, functions) for one in node.elts)
     if isinstance(node, ast.Dict):
-        return all(plain(one) and not isinstance(one, (ast.List, ast.Dict)) for one in node.keys + node.values)
+        return all(plain_within(one, functions) for one in node.keys + node.values)
     return isinstance(node, ast.Constant)
+
+
+def plain_within(node, functions):
+    if isinstance(node, ast.Name):
+        return node.id in functions
+    return plain(node, functions) and not isinstance(node, (ast.List, ast.Dict))
 
 
 def defined(file):
@@ -143,17 +152,18 @@ class Language(unittest.TestCase):
     @on_each_file
     def test_module_level(self, _, tree):
         self.assertIsNotNone(ast.get_docstring(tree))
-        names = []
+        names, functions = [], []
         for node in tree.body[1:]:
             self.assertIsInstance(node, (ast.ImportFrom, ast.FunctionDef, ast.ClassDef, ast.Assign))
             if isinstance(node, ast.Assign):
                 self.assertEqual(len(node.targets), 1)
-                self.assertTrue(plain(node.value), ast.unparse(node))
+                self.assertTrue(plain(node.value, functions), ast.unparse(node))
                 names.append(node.targets[0].id)
             elif isinstance(node, ast.ImportFrom):
                 names += [one.name for one in node.names]
             else:
                 names.append(node.name)
+                functions += [node.name] if isinstance(node, ast.FunctionDef) else []
         self.assertEqual(sorted(names), sorted(set(names)))
 
     @on_each_file
@@ -172,6 +182,30 @@ class Language(unittest.TestCase):
                 self.assertIn(ast.unparse(node.comparators[0]), ("None", "True", "False"))
             if isinstance(node, ast.Raise):
                 self.assertIsInstance(node.exc, ast.Call)
+
+    @on_each_file
+    def test_only_own_errors_are_caught_and_lead_to_others(self, _, tree):
+        for node in ast.walk(tree):
+            if isinstance(node, ast.Try):
+                self.assertEqual(node.orelse + node.finalbody, [])
+                for one in node.handlers:
+                    caught = one.type.elts if isinstance(one.type, ast.Tuple) else [one.type]
+                    for name in caught:
+                        self.assertIn(name.id, defined("errors"))
+                    self.assertIsInstance(one.body[-1], ast.Raise)
+                    self.assertEqual(ast.unparse(one.body[-1].cause), one.name)
+
+    def test_no_property_has_the_name_of_a_method_or_of_what_is_stored(self):
+        properties, others = set(), set()
+        for _, text in sources():
+            for node in ast.walk(ast.parse(text)):
+                if isinstance(node, ast.ClassDef):
+                    methods = [one for one in node.body if isinstance(one, ast.FunctionDef)]
+                    properties |= {one.name for one in methods if one.decorator_list}
+                    others |= {one.name for one in methods if not one.decorator_list}
+                if isinstance(node, ast.Attribute) and isinstance(node.ctx, ast.Store):
+                    others.add(node.attr)
+        self.assertEqual(properties & others, set())
 
     @on_each_file
     def test_names(self, text, tree):

@@ -4,7 +4,7 @@ import unittest
 
 from kit import NO_STRINGS, Case
 from orderlycore.errors import BadText
-from orderlycore.lexing import is_label, number_in, parted
+from orderlycore.lexing import count_in, is_label, number_in, parted
 
 LETTERS = "abcdefghijklmnopqrstuvwxyz"
 DIGITS = "0123456789"
@@ -73,6 +73,18 @@ class Numbers(Case):
                      "00x1", "0x-1", "-0x1", "0x 1", "0x1 ", "0x1_0", "a", "ten", "1\n", "9" * 400, "0x" + "f" * 400):
             with self.subTest(text=text):
                 self.same(number_in(text), None)
+
+
+class Counts(Case):
+    def test_without_needless_noughts(self):
+        for text, number in (("0", 0), ("7", 7), ("10", 10), ("999999", 999999)):
+            self.same([count_in(text), count_in(text, 7)], [number, number])
+        self.same([count_in("1000000"), count_in("1000000", 7), count_in("9999999", 7), count_in("10000000", 7),
+                   count_in("12", 1), count_in("9", 1)], [None, 1000000, 9999999, None, None, 9])
+
+    def test_none(self):
+        for text in ("", "00", "01", "-0", "-1", "+1", "0x1", "1_0", " 1", "1 ", "1\n", "x", "1.0", "9" * 400):
+            self.same([count_in(text), count_in(text, 7)], [None, None])
 
 
 class Lines(Case):

@@ -93,6 +93,15 @@ class Things(Case):
             self.assertEqual(number, wanted[0])
             self.assertIs(thing, wanted[1])
 
+    def test_another_thing_under_a_number(self):
+        orders = filled(3, "abc", [1])
+        copied, thing = orders.copy(), [7]
+        self.same([orders.changed(1, thing), orders.thing(0), orders.is_done(1), copied.thing(1)], [None, "a", True, "b"])
+        self.assertIs(orders.thing(1), thing)
+        for number in (3, BIG):
+            self.refused(NoNumber, {"value": number}, orders.changed, number, "x")
+        self.same(orders.dropped(0), [(2, "c"), (1, [7]), (0, "a")])
+
     def test_open_till_done(self):
         orders = filled(3, "abc")
         self.same([orders.is_done(1), orders.done(1), orders.is_done(1), orders.is_done(0), orders.is_done(2)],
