@@ -35,6 +35,19 @@ FUNCTIONS = {
     "states": ["snapshot(state)"],
     "plain": ["step(state)", "steps(state, many, raised)"],
     "walker": ["asked(buffer, hierarchy, whims, settings, controls, address, way)"],
+    "cycles": ["cycle(core)", "run(core, cycles, steps)"],
+    "meanings": [
+        "is_row(value)", "meaning(core)", "follows(core, state)", "first_unlike(rows, others)", "leftovers(core)",
+    ],
+    "bounds": [
+        "read_cycles(settings)", "fetch_cycles(settings)", "work_cycles(settings)", "most_cycles(settings)",
+        "goes_on(core)",
+    ],
+    "soundness": ["rules()", "broken_rules(core)", "is_sound(core)"],
+    "points": ["is_point(value)", "meets(point, row)", "first_met(points, rows)"],
+    "texts": ["sorts()", "is_of_sort(sort, value)", "written(sort, value)", "read(text)"],
+    "traces": ["traced(row)", "trace(rows)"],
+    "commands": ["is_command(value)", "answer(debugger, command)", "tried(debugger, commands)"],
 }
 
 # Of each class its constructor, its methods, its properties, and whether it has `==`.
@@ -111,6 +124,34 @@ CLASSES = {
          "chosen(oldest, whims, twist)", "numbers()", "dropped(number)", "copy()"],
         ["many", "held"],
         True,
+    )],
+    "units": [(
+        "Units()",
+        ["begun(number, cycles, told)", "aged()", "finished()", "numbers()", "cycles_left(number)", "dropped(number)",
+         "copy()"],
+        ["held"],
+        True,
+    )],
+    "queues": [(
+        "Queues(loads, stores)",
+        ["load_entered(number)", "store_entered(number)", "known(number, place, word)", "source(number, place)",
+         "read(number, place, source)", "leave(number)", "dropped(number)", "loads()", "stores()", "copy()"],
+        ["can_load", "can_store"],
+        True,
+    )],
+    "core": [(
+        "Core(settings, whims, memory, inputs, raises)",
+        ["registers()", "controls()", "memory()", "devices()", "rows()", "raised()", "waits()", "in_flight()",
+         "copy()"],
+        ["clock", "steps", "home", "halted"],
+        False,
+    )],
+    "debugger": [(
+        "Debugger(settings, whims, memory, inputs, raises)",
+        ["rows()", "core()", "beside()", "set_point(label, point)", "drop_point(label)", "points()", "mark(label)",
+         "back(label)", "marks()", "cycle()", "step()", "run(cycles)", "run_to(steps)", "copy()"],
+        ["clock", "steps", "home", "halted", "agrees"],
+        False,
     )],
 }
 
