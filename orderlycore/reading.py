@@ -88,7 +88,9 @@ def _snapshot(lines):
     address, done, state = head
     registers = _words(lines, "registers", are_eight_words)
     controls = _words(lines, "controls", are_eight_words)
-    return (registers, address, controls, state == HALTED, done, _memory_rows(lines), _devices(lines))
+    rows = _memory_rows(lines)
+    devices = _devices(lines)
+    return (registers, address, controls, state == HALTED, done, rows, devices)
 
 
 def _memory_rows(lines):
